@@ -1,0 +1,1 @@
+"""Nodearer: whole plans that are no dearer than any mixture."""

@@ -1,0 +1,1 @@
+"""Exact numbers, lots, tables of numbers and small programs."""

@@ -1,0 +1,1 @@
+"""Families of bases, and what can be asked of them."""
