@@ -144,6 +144,9 @@ class EliminationTest(Case):
 
     def test_target(self):
         self.refused(SizeError, (11,), combination_of, [[1]], 1, [0] * 11)
+        self.refused(SizeError, (11,), combination_of, [[1, 2]], 1, [99999] * 11)
+        self.assertEqual(combination_of([[1] * 10], 10, [10 ** 4] * 10), [Ratio(10 ** 4)])
+        self.assertEqual(combination_of([[1]], 1, [-10 ** 4]), [Ratio(-10 ** 4)])
         self.refused(NumberError, (10001,), combination_of, [[1]], 1, [1, 10001])
         self.refused(NumberError, (-10001,), combination_of, [[1, 1]], 1, [-10001])
         self.refused(NumberError, (11,), combination_of, [[1]], 11, [0] * 11)

@@ -45,8 +45,11 @@ class ErrorsTest(Case):
         self.assertIsNone(errors.WishError(None).at)
 
     def test_messages_of_long_integers(self):
-        self.assertIsInstance(str(errors.NumberError(10 ** 12000)), str)
-        self.assertIsInstance(repr(errors.NumberError(10 ** 12000)), str)
+        for name, fields in FIELDS.items():
+            far = [[10 ** 12000] if VALUES[field].__class__ is list else 10 ** 12000 for field in fields]
+            error = getattr(errors, name)(*far)
+            self.assertGreater(len(str(error)), 0)
+            self.assertIn(name, repr(error))
 
     def test_history_error_has_no_fields(self):
         self.assertEqual(vars(errors.HistoryError()), {})

@@ -77,7 +77,10 @@ class ExchangeTest(Case):
         self.refused(LotError, ((0, 1),), partner, family, [2, 0], [1, 0], 3)
         self.refused(ThingError, (3,), partner, family, [2, 0], [1, 3], 3)
         self.refused(ThingError, (0,), partner, family, [2, 0], [3, 0], 0)
+        self.refused(ThingError, (1,), partner, family, [2, 0], [3, 0], 1)
         self.exact(partner(family, [2, 0], [3, 0], 2), 3)
+        self.refused(LotError, ((0, 1, 2),), partner, Choice(3, 2), [2, 0, 1], [0, 1], 2)
+        self.refused(LotError, ((0, 1, 2),), partner, Choice(3, 2), [0, 1], [2, 0, 1], 0)
 
     def test_path_refuses(self):
         family = Groups([0, 0, 1, 1], [1, 1])
@@ -86,6 +89,8 @@ class ExchangeTest(Case):
         self.refused(ThingError, (4,), path, family, [0], [4])
         self.refused(LotError, ((0, 1),), path, family, [1, 0], [3])
         self.refused(LotError, ((3,),), path, family, [2, 0], [3])
+        self.refused(LotError, ((0, 1, 2),), path, family, [2, 0, 1], [3, 0])
+        self.refused(LotError, ((0, 1, 2),), path, family, [3, 0], [2, 0, 1])
 
     def test_partners_in_chance_families(self):
         random = Random(16)

@@ -79,6 +79,7 @@ class SolveTest(Case):
         self.assertEqual(solve_program([[1]], [-1], [5])[0], "none")
         self.assertEqual(solve_program([[2], [4]], [1, 2], [6])[:2], ("point", [R(1, 2)]))
         self.assertEqual(solve_program(((1, -1),), (0,), (-1, 0))[0], "endless")
+        self.assertEqual(solve_program([[0, 0]], [0], [-2, 0]), ("endless", [R(0), R(0)], [R(1), R(0)]))
 
     def test_at_the_bounds(self):
         random = Random(8)
@@ -126,6 +127,8 @@ class JudgeTest(Case):
         self.judge(("point", point, [R(0), R(1)]), False)
         self.judge(("point", [R(3), R(-1), R(2)], prices), False)
         self.judge(("point", [R(2), R(0), R(2)], prices), False)
+        self.judge(("point", [R(2), R(-1)], [R(0)]), False, ([[1, 1]], [1], [0, 0]))
+        self.judge(("point", [R(1), R(0)], [R(0)]), True, ([[1, 1]], [1], [0, 0]))
         self.judge(("point", point, prices, []), False)
         self.judge(("point", point), False)
         self.judge(("point", point + [R(0)], prices), False)
@@ -147,6 +150,8 @@ class JudgeTest(Case):
         self.judge(("none", [R(-1)]), False, program)
         self.judge(("none", [R(-1), R(0)], []), False, program)
         self.judge(("none", []), False, ([], [], [1]))
+        for word in ("point", "endless", "nothing", None, R(1), ["none"]):
+            self.judge((word, [R(-1), R(0)]), False, program)
 
     def test_endless(self):
         program = ([[1, -1]], [1], [-1, 0])
@@ -156,6 +161,11 @@ class JudgeTest(Case):
         self.judge(("endless", [R(0), R(0)], [R(1), R(1)]), False, program)
         self.judge(("endless", [R(1), R(0)], [R(0), R(0)]), False, program)
         self.judge(("endless", [R(1), R(0)], [R(1)]), False, program)
+        for word in ("point", "none", "end", None, R(1), ["endless"]):
+            self.judge((word, [R(1), R(0)], [R(1), R(1)]), False, program)
+        for part in (None, True, "ab", 2, [1, 0], [R(1), None], [R(1), True], [R(1), "0"], [R(1)], [R(1)] * 3):
+            self.judge(("endless", part, [R(1), R(1)]), False, program)
+            self.judge(("endless", [R(1), R(0)], part), False, program)
         self.judge(("endless", [R(1), R(0)], [R(1), R(1)]), False, ([[1, -1]], [1], [1, 0]))
         self.judge(("endless", [R(1), R(0)], [R(-1), R(-1)]), False, ([[1, -1]], [1], [1, 0]))
 

@@ -207,6 +207,9 @@ class TotalTest(Case):
         self.assertGreater(common[5], 10 ** 10000)
         ratios = [Ratio(1, den) for den in dens]
         self.refused(NumberError, (common[5],), lambda: Ratio.total(ratios + [-ratio for ratio in ratios]))
+        near = lcm(common[4], 10007)
+        self.assertTrue(10 ** 10000 < near < 10 ** 10005)
+        self.refused(NumberError, (near,), lambda: Ratio.total(ratios[:5] + [Ratio(1, 10007)] + ratios[5:]))
         few = ratios[:5]
         self.assertEqual(Ratio.total(few + [-ratio for ratio in few]), Ratio(0))
 

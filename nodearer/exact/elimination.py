@@ -31,7 +31,7 @@ def direction_of(rows, width):
     for at in range(column):
         scale = lcm(scale, lines[at][at])
     ahead = [-lines[at][column] * (scale // lines[at][at]) for at in range(column)]
-    vector = _divided(ahead + [scale] + [0] * (width - column - 1))
+    vector = divided(ahead + [scale] + [0] * (width - column - 1))
     return vector if [entry for entry in vector if entry][0] > 0 else [-entry for entry in vector]
 
 
@@ -72,8 +72,8 @@ def _eliminated(rows, width):
         if at is None:
             continue
         line = rest.pop(at)
-        rest = [cleared(row, line, column) for row in rest]
-        lines = [cleared(row, line, column) for row in lines] + [line]
+        rest = [_cleared(row, line, column) for row in rest]
+        lines = [_cleared(row, line, column) for row in lines] + [line]
         pivots.append(column)
     return lines, pivots
 
@@ -86,14 +86,14 @@ def _first_with(rows, column):
     return None
 
 
-def cleared(row, line, column):
+def _cleared(row, line, column):
     """Return a multiple of the row to which a multiple of the line is added so that its entry in a column is 0."""
     if row[column] == 0:
         return row
-    return _divided([line[column] * mine - row[column] * other for mine, other in zip(row, line)])
+    return divided([line[column] * mine - row[column] * other for mine, other in zip(row, line)])
 
 
-def _divided(row):
+def divided(row):
     """Divide by the greatest common divisor: without this the entries would grow with every step."""
     shared = 0
     for entry in row:

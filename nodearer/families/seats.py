@@ -20,9 +20,10 @@ class Seats(Family):
         for fit in fits:
             look_size(len(fit), 0, _MOST_FITS)
             look_numbers(fit, 0, _MOST_SEATS - 1)
-        for seat in [seat for fit in fits for seat in fit]:
-            if seat >= seats:
-                raise NumberError(seat)
+        for fit in fits:
+            for seat in fit:
+                if seat >= seats:
+                    raise NumberError(seat)
         self.seats = seats
         self.fits = tuple([tuple(sorted(set(fit))) for fit in fits])
         things = len(self.fits)

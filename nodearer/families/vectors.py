@@ -1,8 +1,7 @@
 """Vectors: rows of integers, of which the independent lots are free."""
 
-from math import gcd
-
 from nodearer.errors import NumberError
+from nodearer.exact.elimination import divided
 from nodearer.families.family import Family
 from nodearer.looks import look_rows, look_widths
 
@@ -45,12 +44,7 @@ def _with_row(lines, row, prime):
 
 def _simple(row, prime):
     """Return a row with smaller entries that is zero for the same multipliers."""
-    if prime:
-        return [entry % prime for entry in row]
-    shared = 0
-    for entry in row:
-        shared = gcd(shared, entry)
-    return [entry // shared for entry in row] if shared > 1 else list(row)
+    return [entry % prime for entry in row] if prime else divided(row)
 
 
 def _first_column(row):

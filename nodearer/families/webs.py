@@ -19,9 +19,10 @@ class Web(Family):
             look_numbers(tie, 0, _MOST_PLACES - 1)
         self.places = places
         self.ties = tuple([tuple(tie) for tie in ties])
-        for place in [place for tie in self.ties for place in tie]:
-            if place >= places:
-                raise NumberError(place)
+        for tie in self.ties:
+            for place in tie:
+                if place >= places:
+                    raise NumberError(place)
         Family.__init__(self, len(self.ties), _ranks(places, self.ties), 1)
 
 
