@@ -153,7 +153,7 @@ class ImportsTest(unittest.TestCase):
 
 class NamesTest(unittest.TestCase):
     def test_l8_l15_names(self):
-        every = set(dir(builtins))
+        every = set(dir(builtins)) - {"_"}
         for path, tree in TREES.items():
             taken = {node.name for node in tree.body if isinstance(node, ast.ClassDef)}
             taken |= {alias.name for node in tree.body if isinstance(node, ast.ImportFrom) for alias in node.names}
