@@ -1,6 +1,5 @@
 """What the tests have in common: refusals, and families worked out from their definitions."""
 
-import copy
 import unittest
 from itertools import combinations
 
@@ -26,7 +25,7 @@ def greatest(things, is_free):
 class Case(unittest.TestCase):
     def refused(self, error, fields, call, *args, **more):
         """The call raises exactly this error with these fields, and leaves its arguments as they were."""
-        before = copy.deepcopy((args, more)) if not has_objects(args) else None
+        before = snapshot((args, more))
         with self.assertRaises(error) as caught:
             call(*args, **more)
         self.assertIs(caught.exception.__class__, error)
@@ -34,8 +33,14 @@ class Case(unittest.TestCase):
         self.assertEqual(told, fields)
         self.assertEqual([value.__class__ for value in told], [value.__class__ for value in fields])
         str(caught.exception)
-        if before is not None:
-            self.assertEqual((args, more), before)
+        self.assertEqual(snapshot((args, more)), before)
+
+    def asked(self, call, *args, **more):
+        """What the call returns; it leaves its arguments as they were."""
+        before = snapshot((args, more))
+        value = call(*args, **more)
+        self.assertEqual(snapshot((args, more)), before)
+        return value
 
     def exact(self, value, wanted):
         """Equal, and of the same kinds of values throughout."""
@@ -72,9 +77,15 @@ class Case(unittest.TestCase):
         return None
 
 
-def has_objects(args):
-    """Whether some argument is an object of the program, which need not be comparable by a copy."""
-    return any(arg.__class__.__module__.startswith("nodearer") for arg in args)
+def snapshot(value):
+    """A value with all that its objects hold, so that it tells whether anything has changed."""
+    if isinstance(value, (list, tuple)):
+        return (value.__class__.__name__, [snapshot(part) for part in value])
+    if isinstance(value, dict):
+        return ("dict", [(key, snapshot(part)) for key, part in value.items()])
+    if value.__class__.__module__.startswith("nodearer"):
+        return (value.__class__.__name__, snapshot(vars(value)))
+    return value
 
 
 def kinds(value):

@@ -22,6 +22,13 @@ CLASSES = {
     "nodearer.families.told": {"Told": ["__init__"]},
     "nodearer.families.built": {"Both": ["__init__"], "Short": ["__init__"]},
     "nodearer.families.turned": {"Mirror": ["__init__"], "Minor": ["__init__", "lifted"]},
+    "nodearer.shares.mixtures": {
+        "Mixture": "__init__ __len__ __iter__ __eq__ weight_of mean trimmed blend".split()},
+    "nodearer.wishes.wishes": {"Wish": "__init__ of count_in keeps missed mean_in __eq__ __str__".split()},
+    "nodearer.wishes.books": {"Book": "__init__ slack missed keeps is_near fits_shares __eq__".split()},
+    "nodearer.walks.states": {
+        "State": "__init__ is_sound droppable table direction ahead moved dropped".split()},
+    "nodearer.walks.walker": {"Walker": "__init__ ended steps step run open_states found ladder".split()},
 }
 FUNCTIONS = {
     "nodearer.exact.lots": {
@@ -38,6 +45,25 @@ FUNCTIONS = {
     "nodearer.families.greedy": {
         "least_base": "family costs", "floor_paper": "family costs", "judge_floor": "family costs floor paper",
         "least_family": "family costs"},
+    "nodearer.shares.sums": {"sum_of": "family shares lot", "barrier": "family shares", "shares_of": "things lot"},
+    "nodearer.shares.blocks": {
+        "tight_lots": "family shares", "chain": "family shares", "blocks": "family shares"},
+    "nodearer.shares.peel": {
+        "peel": "family shares", "peeled": "family shares", "judge_mixture": "family shares mixture"},
+    "nodearer.shares.reach": {"reach": "family shares direction", "is_corner": "family shares"},
+    "nodearer.shares.rotas": {"rota": "family counts days", "judge_rota": "family counts days lots"},
+    "nodearer.wishes.moved": {"minor_book": "book taken left", "mirror_book": "book", "side_book": "first second"},
+    "nodearer.wishes.plain": {"keepers": "book", "near_bases": "book"},
+    "nodearer.walks.states": {"first_state": "book shares"},
+    "nodearer.walks.deeds": {"deed": "state", "done": "state line"},
+    "nodearer.walks.ladders": {"judge_ladder": "book shares lines", "followed": "book shares lines"},
+    "nodearer.walks.near": {
+        "near_mixture": "book shares", "near_base": "book shares costs", "judge_near": "book shares mixture"},
+    "nodearer.prices.charges": {
+        "prices_fit": "book prices", "charge_of": "book prices lot", "floor_of": "book costs prices",
+        "lowest": "book costs prices"},
+    "nodearer.prices.judges": {
+        "judge_refusal": "book prices", "judge_bound": "book costs bound prices", "judge_shares": "book shares"},
 }
 ARGUMENTS = {
     ("nodearer.families.counts", "Choice"): "(things, take)", ("nodearer.families.counts", "Groups"): "(groups, takes)",
@@ -46,6 +72,22 @@ ARGUMENTS = {
     ("nodearer.families.told", "Told"): "(things, lots)", ("nodearer.families.built", "Both"): "(first, second)",
     ("nodearer.families.built", "Short"): "(family, take)", ("nodearer.families.turned", "Mirror"): "(family)",
     ("nodearer.families.turned", "Minor"): "(family, taken, left)", ("nodearer.exact.ratios", "Ratio"): "(num, den=1)",
+    ("nodearer.shares.mixtures", "Mixture"): "(things, pairs)",
+    ("nodearer.wishes.wishes", "Wish"): "(weights, *, most=None, least=None)",
+    ("nodearer.wishes.books", "Book"): "(family, wishes)", ("nodearer.walks.states", "State"): "(book, shares, kept)",
+    ("nodearer.walks.walker", "Walker"): "(book, shares)",
+}
+METHODS = {
+    ("nodearer.shares.mixtures", "Mixture"): {
+        "weight_of": "lot", "mean": "costs", "trimmed": "", "blend": "things parts"},
+    ("nodearer.wishes.wishes", "Wish"): {
+        "of": "things lot most least", "count_in": "lot", "keeps": "lot", "missed": "lot", "mean_in": "shares"},
+    ("nodearer.wishes.books", "Book"): {
+        "slack": "at", "missed": "lot", "keeps": "lot", "is_near": "lot", "fits_shares": "shares"},
+    ("nodearer.walks.states", "State"): {
+        "is_sound": "", "droppable": "", "table": "", "direction": "", "ahead": "direction", "moved": "direction step",
+        "dropped": "at"},
+    ("nodearer.walks.walker", "Walker"): {"step": "", "run": "most", "open_states": "", "found": "", "ladder": ""},
 }
 
 
@@ -75,13 +117,23 @@ class InterfaceTest(unittest.TestCase):
         for (module, name), told in ARGUMENTS.items():
             self.assertEqual(str(signature(getattr(import_module(module), name))), told)
 
+    def test_arguments_of_methods(self):
+        for (module, name), told in METHODS.items():
+            for method, words in told.items():
+                names = list(signature(getattr(getattr(import_module(module), name), method)).parameters)
+                self.assertEqual([word for word in names if word != "self"], words.split(), method)
+
     def test_static_methods_and_properties(self):
-        ratio = import_module("nodearer.exact.ratios").Ratio
-        family = import_module("nodearer.families.family").Family
-        self.assertIsInstance(vars(ratio)["read"], staticmethod)
-        self.assertIsInstance(vars(ratio)["total"], staticmethod)
-        self.assertIsInstance(vars(family)["dead"], property)
-        self.assertIsInstance(vars(family)["sure"], property)
+        for module, name, method, kind in (
+                ("nodearer.exact.ratios", "Ratio", "read", staticmethod),
+                ("nodearer.exact.ratios", "Ratio", "total", staticmethod),
+                ("nodearer.families.family", "Family", "dead", property),
+                ("nodearer.families.family", "Family", "sure", property),
+                ("nodearer.shares.mixtures", "Mixture", "blend", staticmethod),
+                ("nodearer.wishes.wishes", "Wish", "of", classmethod),
+                ("nodearer.walks.walker", "Walker", "ended", property),
+                ("nodearer.walks.walker", "Walker", "steps", property)):
+            self.assertIsInstance(vars(getattr(import_module(module), name))[method], kind)
 
     def test_one_bound_for_things(self):
         looks = import_module("nodearer.looks")

@@ -11,12 +11,22 @@ def lot_of_mask(mask, things):
     return tuple([thing for thing in range(things) if (mask >> thing) & 1])
 
 
+def sums_of_masks(entries):
+    """Return the table of the sums of all lots, from one entry for each thing."""
+    sums = [0]
+    for entry in entries:
+        sums = sums + [total + entry for total in sums]
+    return sums
+
+
 def sizes_of_masks(things):
     """Return the table of the numbers of things of all lots."""
-    sizes = [0]
-    for _ in range(things):
-        sizes = sizes + [size + 1 for size in sizes]
-    return sizes
+    return sums_of_masks([1] * things)
+
+
+def place_of(lot):
+    """Return what puts lots into their order."""
+    return len(lot), lot
 
 
 def lots_of_size(things, size):

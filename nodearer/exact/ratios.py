@@ -24,15 +24,15 @@ class Ratio:
 
     def __add__(self, other):
         num, den = _parts(other)
-        return _lowest(self.num * den + num * self.den, self.den * den)
+        return ratio_of(self.num * den + num * self.den, self.den * den)
 
     def __sub__(self, other):
         num, den = _parts(other)
-        return _lowest(self.num * den - num * self.den, self.den * den)
+        return ratio_of(self.num * den - num * self.den, self.den * den)
 
     def __mul__(self, other):
         num, den = _parts(other)
-        return _lowest(self.num * num, self.den * den)
+        return ratio_of(self.num * num, self.den * den)
 
     def __neg__(self):
         return Ratio(-self.num, self.den)
@@ -56,8 +56,8 @@ class Ratio:
         if other.num == 0:
             raise NumberError(0)
         if other.num < 0:
-            return _lowest(-self.num * other.den, -self.den * other.num)
-        return _lowest(self.num * other.den, self.den * other.num)
+            return ratio_of(-self.num * other.den, -self.den * other.num)
+        return ratio_of(self.num * other.den, self.den * other.num)
 
     def compare(self, other):
         """Return -1, 0 or 1, if this ratio is less than, equal to or greater than the other one."""
@@ -92,7 +92,22 @@ class Ratio:
         for ratio in ratios:
             den = lcm(den, ratio.den)
             look_number(den, 1, _MOST_COMMON)
-        return _lowest(sum([ratio.num * (den // ratio.den) for ratio in ratios]), den)
+        return ratio_of(sum([ratio.num * (den // ratio.den) for ratio in ratios]), den)
+
+
+def ratio_of(num, den):
+    """Make a ratio of a result; only its lowest terms must be in bounds."""
+    shared = gcd(num, den)
+    return Ratio(num // shared, den // shared)
+
+
+def least_quotient(pairs):
+    """Return the first pair (num, den) of the least quotient; no den is below 1."""
+    least = pairs[0]
+    for pair in pairs:
+        if pair[0] * least[1] < least[0] * pair[1]:
+            least = pair
+    return least
 
 
 def scaled(ratios):
@@ -109,9 +124,3 @@ def _parts(other):
         return other.num, other.den
     look_number(other, -MOST, MOST)
     return other, 1
-
-
-def _lowest(num, den):
-    """Make a ratio of a result; only its lowest terms must be in bounds."""
-    shared = gcd(num, den)
-    return Ratio(num // shared, den // shared)

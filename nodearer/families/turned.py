@@ -23,9 +23,7 @@ class Minor(Family):
     def __init__(self, family, taken, left):
         self.taken = look_lot(family.things, taken)
         self.left = look_lot(family.things, left)
-        for thing in self.taken:
-            if thing in self.left:
-                raise ThingError(thing)
+        look_apart(self.taken, self.left)
         nodes = family.nodes + 1
         look_nodes(nodes)
         self.family = family
@@ -37,6 +35,13 @@ class Minor(Family):
         """Return the lot of the old numbers of the things of a lot, together with the taken things."""
         looked = look_lot(self.things, lot)
         return tuple(sorted(self.taken + tuple([self.rest[thing] for thing in looked])))
+
+
+def look_apart(taken, left):
+    """Refuse the least thing that is in both lots."""
+    for thing in taken:
+        if thing in left:
+            raise ThingError(thing)
 
 
 def _ranks_of_rest(family, taken, rest):

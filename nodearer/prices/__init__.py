@@ -1,0 +1,1 @@
+"""Prices of wishes, and what they show."""

@@ -1,0 +1,1 @@
+"""Shares of things and mixtures of lots."""

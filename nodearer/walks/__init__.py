@@ -1,0 +1,1 @@
+"""Walks from shares that fit a book to near bases."""

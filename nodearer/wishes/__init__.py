@@ -1,0 +1,1 @@
+"""Wishes for the things of a lot, and books of wishes for a family."""
