@@ -24,8 +24,8 @@ def greatest(things, is_free):
 
 class Case(unittest.TestCase):
     def refused(self, error, fields, call, *args, **more):
-        """The call raises exactly this error with these fields, and leaves its arguments as they were."""
-        before = snapshot((args, more))
+        """The call raises exactly this error with these fields and changes nothing."""
+        before = held_by(call, args, more)
         with self.assertRaises(error) as caught:
             call(*args, **more)
         self.assertIs(caught.exception.__class__, error)
@@ -33,13 +33,13 @@ class Case(unittest.TestCase):
         self.assertEqual(told, fields)
         self.assertEqual([value.__class__ for value in told], [value.__class__ for value in fields])
         str(caught.exception)
-        self.assertEqual(snapshot((args, more)), before)
+        self.assertEqual(held_by(call, args, more), before)
 
     def asked(self, call, *args, **more):
-        """What the call returns; it leaves its arguments as they were."""
-        before = snapshot((args, more))
+        """What the call returns; it changes nothing."""
+        before = held_by(call, args, more)
         value = call(*args, **more)
-        self.assertEqual(snapshot((args, more)), before)
+        self.assertEqual(held_by(call, args, more), before)
         return value
 
     def exact(self, value, wanted):
@@ -86,6 +86,11 @@ def snapshot(value):
     if value.__class__.__module__.startswith("nodearer"):
         return (value.__class__.__name__, snapshot(vars(value)))
     return value
+
+
+def held_by(call, args, more):
+    """What a call could change: its arguments, and its object if it is a method."""
+    return snapshot((args, more, getattr(call, "__self__", None)))
 
 
 def kinds(value):

@@ -194,7 +194,8 @@ KINDS = ("most", "least", "both", "weighted")
 def some_wish(random, shares, kind):
     """A wish that the shares keep on average, as often as not with no room; plain unless the kind is weighted."""
     heavy = random.choice([2, 5, 20]) if kind == "weighted" else 1
-    weights = [random.randint(0, heavy) if random.random() < 0.7 else 0 for _ in shares]
+    dense = random.choice([0.4, 1])
+    weights = [random.randint(0, heavy) if random.random() < dense else 0 for _ in shares]
     mean = sum([weight * share for weight, share in zip(weights, shares)], Fraction(0))
     sides = {"most": "m", "least": "l", "weighted": "m"}.get(kind) or random.choice(["m", "l", "ml"])
     most = ceil(mean) + random.choice([0, 0, 0, 1]) if "m" in sides else None
@@ -205,4 +206,125 @@ def some_wish(random, shares, kind):
 def some_book(random, family, shares, kind=None):
     """A book that borne shares fit."""
     kind = kind or random.choice(KINDS)
-    return Book(family, [some_wish(random, shares, kind) for _ in range(random.randint(0, 5))])
+    return Book(family, [some_wish(random, shares, kind) for _ in range(random.choice([0, 1, 1, 2, 3, 5]))])
+
+
+def kernel_by(rows, width):
+    """The direction of point 12: the least column that is a combination of those before, and the combination."""
+    for column in range(width):
+        lines = [[Fraction(entry) for entry in row[:column + 1]] for row in rows]
+        pivots = []
+        for at in range(column):
+            # All columns before this one are independent, so each one has a pivot.
+            pivot = next(line for line in lines if line[at] and line not in pivots)
+            lines = [line if line is pivot else
+                     [x - line[at] / pivot[at] * y for x, y in zip(line, pivot)] for line in lines]
+            pivots = [[x - line[at] / pivot[at] * y for x, y in zip(line, pivot)] for line in pivots]
+            pivots.append(pivot)
+            lines = [line for line in lines if line is not pivot]
+        if not any(line[column] for line in lines):
+            entries = [-line[column] / line[at] for at, line in enumerate(pivots)] + [Fraction(1)]
+            scale = lcm(*[entry.denominator for entry in entries])
+            scale = scale if next(entry for entry in entries if entry) > 0 else -scale
+            return [int(entry * scale) for entry in entries] + [0] * (width - column - 1)
+    return None
+
+
+def loose_by(shares):
+    return tuple(thing for thing, share in enumerate(shares) if 0 < share < 1)
+
+
+def is_safe(book, shares, at):
+    """The conditions of point 34 for a wish that is dropped."""
+    wish, slack = book.wishes[at], slack_by(book, at)
+    low = count_by(wish, [thing for thing, share in enumerate(shares) if share == 1])
+    high = low + count_by(wish, loose_by(shares))
+    return (wish.most is None or high <= wish.most + slack) and (wish.least is None or low >= wish.least - slack)
+
+
+def fault_by(book, shares, kept):
+    """The first wish for which a state is not sound, or None."""
+    for at, wish in enumerate(book.wishes):
+        fine = not missed_by(wish, mean_by(wish, shares)) if at in kept else is_safe(book, shares, at)
+        if not fine:
+            return at
+    return None
+
+
+def table_by(book, ranks, shares, kept):
+    """The table of point 35."""
+    loose = loose_by(shares)
+    rows = [[1 if thing in block else 0 for thing in loose] for block in blocks_by(ranks, shares)[1]]
+    for at in kept:
+        wish = book.wishes[at]
+        if mean_by(wish, shares) in (wish.most, wish.least):
+            rows.append([wish.weights[thing] for thing in loose])
+    return rows
+
+
+def direction_by(book, ranks, shares, kept):
+    loose = loose_by(shares)
+    entries = kernel_by(table_by(book, ranks, shares, kept), len(loose))
+    if entries is None:
+        return None
+    told = dict(zip(loose, entries))
+    return [told.get(thing, 0) for thing in range(len(shares))]
+
+
+def may_be(book, ranks, shares, kept):
+    """Whether shares are borne and keep all kept wishes on average."""
+    return barrier_by(ranks, shares) is None and not any(missed_by(book.wishes[at], mean_by(book.wishes[at], shares))
+                                                         for at in kept)
+
+
+def step_on(shares, direction, step):
+    return [share + step * entry for share, entry in zip(shares, direction)]
+
+
+def fine_shares(random, family):
+    """Borne shares with a least common denominator near 10 ** 20; the family has more than 20 bases."""
+    far = 10 ** 20 - random.randrange(1000)
+    cuts = sorted([random.randrange(1, far) for _ in range(20)])
+    parts = [high - low for low, high in zip([0] + cuts, cuts + [far])]
+    bases = random.sample(list(family.bases()), len(parts))
+    return shares_by(family.things, {base: Fraction(part, far) for base, part in zip(bases, parts)})
+
+
+def great_case(random, family, kind):
+    """A book of this kind with five wishes, and fine shares that fit it."""
+    shares = fine_shares(random, family)
+    book = Book(family, [])
+    while (book.kind, len(book.wishes)) != (kind, 5):
+        book = Book(family, [some_wish(random, shares, kind) for _ in range(5)])
+    return book, shares
+
+
+def some_prices(random, book, fit=True):
+    """Prices as fractions; all of them fit the book, or they are of any sign."""
+    prices = []
+    for wish in book.wishes:
+        signs = [0] + ([1] if wish.most is not None else []) + ([-1] if wish.least is not None else [])
+        sign = random.choice(signs if fit else [-1, 0, 1])
+        prices.append(sign * Fraction(random.randint(1, 9), random.randint(1, 6)))
+    return prices
+
+
+def unfit_by(book, prices):
+    """The index of the first price that does not fit by point 41, or None."""
+    for at, (wish, price) in enumerate(zip(book.wishes, prices)):
+        if (price > 0 and wish.most is None) or (price < 0 and wish.least is None):
+            return at
+    return None
+
+
+def charge_by(book, prices, lot):
+    """The charge of point 41."""
+    charge = Fraction(0)
+    for wish, price in zip(book.wishes, prices):
+        if price:
+            charge += price * (count_by(wish, lot) - (wish.most if price > 0 else wish.least))
+    return charge
+
+
+def floor_by(book, costs, prices):
+    return min(sum(costs[thing] for thing in base) + charge_by(book, prices, base) for base in book.family.bases())

@@ -10,8 +10,8 @@ from nodearer.shares.sums import shares_of
 from nodearer.wishes.books import Book
 from nodearer.wishes.wishes import Wish
 from tests.helpers import subsets
-from tests.plans import (FAMILIES, HALF, KINDS, SQUARE, PlanCase, R, barrier_by, borne, count_by, depth_by, keepers_by,
-                         kind_by, misfit, missed_by, near_by, ranks_of, ratios_for, slack_by, some_book)
+from tests.plans import (FAMILIES, HALF, KINDS, SQUARE, PlanCase, R, barrier_by, borne, count_by, depth_by,
+                         keepers_by, kind_by, misfit, missed_by, near_by, ranks_of, ratios_for, slack_by, some_book)
 
 PLAIN = Wish([1, 1, 0], most=1)
 HEAVY = Wish([3, 0, 2], most=4)

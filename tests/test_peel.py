@@ -10,8 +10,8 @@ from nodearer.shares.mixtures import Mixture
 from nodearer.shares.peel import judge_mixture, peel, peeled
 from nodearer.shares.sums import barrier, shares_of
 from tests.helpers import subsets
-from tests.plans import (FAMILIES, HALF, SQUARE, PlanCase, R, blocks_by, borne, frac, is_mixture_of, mixed, ranks_of,
-                         ratio_for, ratios_for, shares_by, table_of, total)
+from tests.plans import (FAMILIES, HALF, SQUARE, PlanCase, R, blocks_by, borne, fine_shares, frac, is_mixture_of,
+                         mixed, ranks_of, ratio_for, ratios_for, shares_by, table_of, total)
 
 CLOSE = Fraction(1, 10 ** 80)
 
@@ -90,12 +90,9 @@ class PeelTest(PlanCase):
         self.exact(peel(Choice(2, 1), [R(1, far), R(far - 1, far)]), ((0,), R(1, far)))
         random = Random(39)
         for family in (Choice(10, 5), Choice(10, 3), Groups([0] * 5 + [1] * 5, [2, 3])):
-            cuts = sorted([random.randrange(1, far) for _ in range(30)])
-            parts = [high - low for low, high in zip([0] + cuts, cuts + [far])]
-            bases = random.sample(list(family.bases()), len(parts))
-            shares = shares_by(10, {base: Fraction(part, far) for base, part in zip(bases, parts)})
+            shares = fine_shares(random, family)
             mixture = peeled(family, ratios_for(shares))
-            self.assertTrue(is_mixture_of(mixture, bases + list(family.bases()), shares))
+            self.assertTrue(is_mixture_of(mixture, list(family.bases()), shares))
             self.assertLessEqual(len(mixture), 10)
             self.assertLessEqual(max(weight.den for weight, _ in mixture), 10 ** 50)
             self.assertTrue(is_mixture_of(mixture.trimmed(), table_of(mixture), shares))

@@ -7,8 +7,8 @@ from nodearer.families.counts import Choice, Groups
 from nodearer.families.rooms import Rooms
 from nodearer.shares.sums import barrier, shares_of, sum_of
 from tests.helpers import subsets
-from tests.plans import (FAMILIES, HALF, SQUARE, PlanCase, R, barrier_by, borne, frac, ranks_of, ratio_for, ratios_for,
-                         total)
+from tests.plans import (FAMILIES, HALF, SQUARE, PlanCase, R, barrier_by, borne, frac, ranks_of, ratio_for,
+                         ratios_for, total)
 
 
 class SumTest(PlanCase):
