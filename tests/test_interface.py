@@ -123,6 +123,10 @@ class InterfaceTest(unittest.TestCase):
                 names = list(signature(getattr(getattr(import_module(module), name), method)).parameters)
                 self.assertEqual([word for word in names if word != "self"], words.split(), method)
 
+    def test_default_of_run(self):
+        walker = import_module("nodearer.walks.walker").Walker
+        self.assertEqual(str(signature(walker.run)), "(self, most=120000)")
+
     def test_static_methods_and_properties(self):
         for module, name, method, kind in (
                 ("nodearer.exact.ratios", "Ratio", "read", staticmethod),

@@ -101,6 +101,8 @@ class JudgeTest(PlanCase):
         self.judge([(R(1), [0, 3])], False)
         for things in (0, 3, 5, 10):
             self.judge([(HALF, [0, 3]), (HALF, [1, 2])] if things > 3 else [(R(1), [])], False, things)
+        for other in (None, True, 4, "mixture", R(1), [], [(HALF, [0, 3]), (HALF, [1, 2])]):
+            self.assertIs(judge_near(self.BOOK, self.SHARES, other), False)
 
     def test_number_of_lots(self):
         # At most as many lots as things, also if more would be right otherwise.

@@ -142,6 +142,8 @@ class JudgeTest(PlanCase):
         self.judge([(R(1), [])], False, 0)
         self.assertIs(judge_mixture(Choice(0, 0), [], Mixture(0, [(R(1), [])])), True)
         self.assertIs(judge_mixture(Choice(0, 0), [], Mixture(1, [(R(1), [])])), False)
+        for other in (None, True, 4, "mixture", R(1), [], [(R(1, 4), [0, 2])], (R(1), ())):
+            self.assertIs(judge_mixture(self.FAMILY, self.SHARES, other), False)
 
     def test_shares_need_not_be_borne(self):
         mixture = Mixture(5, [(R(1), [0, 1, 4])])

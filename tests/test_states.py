@@ -4,6 +4,7 @@ from fractions import Fraction
 from random import Random
 
 from nodearer.errors import LotError, NumberError, ShareError, SizeError, WeightError, WishError
+from nodearer.exact.ratios import MOST
 from nodearer.families.counts import Choice, Groups
 from nodearer.shares.sums import shares_of
 from nodearer.walks.states import State, first_state
@@ -250,6 +251,11 @@ class MovingTest(PlanCase):
         self.refused(NumberError, (2 * far,), state.moved, [1, 0, 0, 0], R(1, 2 * far))
         self.refused(NumberError, (2 * (far + 1),), state.moved, [1, -1, 0, 0], R(1, far + 1))
         self.exact(state.moved([10 ** 30, -10 ** 30, 0, 0], R(1, 10 ** 330)).shares[1], R(far // 2 - 1, far))
+        # New shares may be no ratios at all, and what is wrong with a single one comes first.
+        thirds = State(Book(PAIRS, []), [R(1, 3), R(2, 3), HALF, HALF], [])
+        self.refused(NumberError, (3 * MOST,), thirds.moved, [1, -1, 0, 0], R(1, MOST))
+        for sign in (1, -1):
+            self.refused(WeightError, (0,), state.moved, [1, -1, 0, 0], R(sign * (10 ** 301 + 1), 10 ** 301))
         back = other.moved([1, -1, 0, 0], R(-1, far))
         self.exact(back.shares, (HALF,) * 4)
 

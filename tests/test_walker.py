@@ -148,7 +148,7 @@ class WalkerTest(WalkCase):
         walker = Walker(Book(PAIRS, []), shares)
         shares[0] = R(1)
         walker.run(4)
-        told = (walker.open_states(), walker.found(), walker.ladder())
+        told = [list(call()) for call in (walker.open_states, walker.found, walker.ladder)]
         self.assertTrue(all(told))
         for call in (walker.open_states, walker.found, walker.ladder):
             call().clear()
@@ -171,10 +171,11 @@ class WalkerTest(WalkCase):
         self.refused(WishError, (2,), Walker, book, tuple(shares_of(5, [1, 2, 3])))
 
     def test_great_walks(self):
-        """Ten things, five wishes and shares with a least common denominator near 10 ** 20."""
+        """Many things, five wishes and shares with a least common denominator near 10 ** 20."""
         random = Random(70)
         groups = Groups([0] * 5 + [1] * 5, [2, 3])
-        for kind, family in (("both", Choice(10, 5)), ("least", groups), ("most", Choice(10, 4))):
+        for kind, family in (("both", Choice(10, 5)), ("least", groups), ("most", Choice(10, 4)),
+                             ("weighted", Choice(8, 4))):
             book, shares = great_case(random, family, kind)
             walker = Walker(book, ratios_for(shares))
             self.assertLessEqual(walker.run(), 120000)

@@ -21,14 +21,14 @@ def look_shares(things, shares, most):
 
 def spares_of(family, parts, whole):
     """Return for each lot, by its mask, the parts that its rank bears above its sum."""
-    return [rank * whole - total for rank, total in zip(family.ranks, sums_of_masks(parts))]
+    borne = [rank * whole for rank in range(family.full + 1)]
+    return [borne[rank] - total for rank, total in zip(family.ranks, sums_of_masks(parts))]
 
 
 def barrier_of(things, spares):
     """Return the barrier, or None if the spares are those of borne shares."""
-    exceeding = [lot_of_mask(mask, things) for mask, spare in enumerate(spares) if spare < 0]
-    if exceeding:
-        return min(exceeding, key=place_of)
+    if min(spares) < 0:
+        return min([lot_of_mask(mask, things) for mask, spare in enumerate(spares) if spare < 0], key=place_of)
     return tuple(range(things)) if spares[-1] > 0 else None
 
 

@@ -1,4 +1,4 @@
-"""Peeling bases from shares, and the mixture that remains in the hand."""
+"""Peeling bases from shares, once, or again and again until nothing is left of them."""
 
 from nodearer.exact.masks import sums_of_masks
 from nodearer.exact.ratios import Ratio, least_quotient

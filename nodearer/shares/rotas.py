@@ -13,7 +13,7 @@ def rota(family, counts, days):
     """Return the plain rota: on each day the first base after which the days that remain still have a rota."""
     _look_rota(family, counts, days)
     look_borne(family.things, spares_of(family, counts, days))
-    left = list(counts)
+    left = counts
     found = []
     for rest in reversed(range(days)):
         lot = _first_base(family, left, rest)

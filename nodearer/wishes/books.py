@@ -21,8 +21,7 @@ class Book:
                     raise WishError(at)
         self.family = family
         self.wishes = tuple(wishes)
-        self.deep = max([sum([1 for wish in wishes if wish.weights[thing]]) for thing in range(family.things)],
-                        default=0)
+        self.deep = _depth_of(family.things, wishes)
         self.kind = _kind_of(wishes)
 
     def slack(self, at):
@@ -71,6 +70,10 @@ def look_fitting(book, shares):
     for at, wish in enumerate(book.wishes):
         if not wish.allows(wish.total_of(parts), whole):
             raise WishError(at)
+
+
+def _depth_of(things, wishes):
+    return max([sum([1 for wish in wishes if wish.weights[thing]]) for thing in range(things)], default=0)
 
 
 def _kind_of(wishes):
