@@ -209,6 +209,16 @@ def some_book(random, family, shares, kind=None):
     return Book(family, [some_wish(random, shares, kind) for _ in range(random.choice([0, 1, 1, 2, 3, 5]))])
 
 
+def lowered(random, book):
+    """The book with other numbers, which it may be impossible to keep."""
+    wishes = []
+    for wish in book.wishes:
+        most = None if wish.most is None else wish.most - random.choice([0, 1, 2])
+        least = None if wish.least is None else min(wish.least + random.choice([0, 1]), 1000 if most is None else most)
+        wishes.append(Wish(wish.weights, most=most, least=least))
+    return Book(book.family, wishes)
+
+
 def kernel_by(rows, width):
     """The direction of point 12: the least column that is a combination of those before, and the combination."""
     for column in range(width):

@@ -29,6 +29,11 @@ CLASSES = {
     "nodearer.walks.states": {
         "State": "__init__ is_sound droppable table direction ahead moved dropped".split()},
     "nodearer.walks.walker": {"Walker": "__init__ ended steps step run open_states found ladder".split()},
+    "nodearer.prices.answers": {"Answer": [], "Refusal": ["__init__", "holds"], "Settlement": ["__init__", "holds"]},
+    "nodearer.prices.trees": {"Tree": ["__init__", "holds"]},
+    "nodearer.draws.calendars": {"Calendar": "__init__ __len__ __iter__ day counts of_thing".split()},
+    "nodearer.fronts.front": {"Front": ["__init__", "solve", "words"]},
+    "nodearer.fronts.works": {"Works": "__init__ laying loads end words".split(), "Fast": ["__init__"]},
 }
 FUNCTIONS = {
     "nodearer.exact.lots": {
@@ -64,6 +69,11 @@ FUNCTIONS = {
         "lowest": "book costs prices"},
     "nodearer.prices.judges": {
         "judge_refusal": "book prices", "judge_bound": "book costs bound prices", "judge_shares": "book shares"},
+    "nodearer.prices.settle": {"settle": "book costs", "value_of": "book costs"},
+    "nodearer.prices.trees": {"least_keeper": "book costs"},
+    "nodearer.prices.curves": {"curve": "book costs at"},
+    "nodearer.draws.tapes": {"period_of": "mixture", "drawn": "mixture number"},
+    "nodearer.fronts.works": {"fast": "times"},
 }
 ARGUMENTS = {
     ("nodearer.families.counts", "Choice"): "(things, take)", ("nodearer.families.counts", "Groups"): "(groups, takes)",
@@ -75,7 +85,12 @@ ARGUMENTS = {
     ("nodearer.shares.mixtures", "Mixture"): "(things, pairs)",
     ("nodearer.wishes.wishes", "Wish"): "(weights, *, most=None, least=None)",
     ("nodearer.wishes.books", "Book"): "(family, wishes)", ("nodearer.walks.states", "State"): "(book, shares, kept)",
-    ("nodearer.walks.walker", "Walker"): "(book, shares)",
+    ("nodearer.walks.walker", "Walker"): "(book, shares)", ("nodearer.prices.answers", "Refusal"): "(prices)",
+    ("nodearer.prices.answers", "Settlement"): "(mixture, prices, value, near, plan)",
+    ("nodearer.prices.trees", "Tree"): "(base, lines)", ("nodearer.draws.calendars", "Calendar"): "(mixture)",
+    ("nodearer.fronts.front", "Front"): "(book, costs)",
+    ("nodearer.fronts.works", "Works"): "(times, limit, *, costs=None)",
+    ("nodearer.fronts.works", "Fast"): "(works, refusal, settlement)",
 }
 METHODS = {
     ("nodearer.shares.mixtures", "Mixture"): {
@@ -88,6 +103,12 @@ METHODS = {
         "is_sound": "", "droppable": "", "table": "", "direction": "", "ahead": "direction", "moved": "direction step",
         "dropped": "at"},
     ("nodearer.walks.walker", "Walker"): {"step": "", "run": "most", "open_states": "", "found": "", "ladder": ""},
+    ("nodearer.prices.answers", "Refusal"): {"holds": "book costs"},
+    ("nodearer.prices.answers", "Settlement"): {"holds": "book costs"},
+    ("nodearer.prices.trees", "Tree"): {"holds": "book costs"},
+    ("nodearer.draws.calendars", "Calendar"): {"day": "number", "counts": "days", "of_thing": "thing"},
+    ("nodearer.fronts.front", "Front"): {"solve": "", "words": "lot"},
+    ("nodearer.fronts.works", "Works"): {"laying": "lot", "loads": "lot", "end": "lot", "words": "lot"},
 }
 
 
@@ -138,6 +159,14 @@ class InterfaceTest(unittest.TestCase):
                 ("nodearer.walks.walker", "Walker", "ended", property),
                 ("nodearer.walks.walker", "Walker", "steps", property)):
             self.assertIsInstance(vars(getattr(import_module(module), name))[method], kind)
+
+    def test_bases_of_classes(self):
+        for module, name, base_module, base in (
+                ("nodearer.prices.answers", "Refusal", "nodearer.prices.answers", "Answer"),
+                ("nodearer.prices.answers", "Settlement", "nodearer.prices.answers", "Answer"),
+                ("nodearer.fronts.works", "Works", "nodearer.fronts.front", "Front")):
+            self.assertEqual(getattr(import_module(module), name).__bases__,
+                             (getattr(import_module(base_module), base),))
 
     def test_one_bound_for_things(self):
         looks = import_module("nodearer.looks")

@@ -79,6 +79,8 @@ def methods(kind):
 CLASSES = {node.name: node for _, node in nodes(ast.ClassDef)}
 OWN_METHODS = {method.name for kind in CLASSES.values() for method in methods(kind)}
 STORED = {node.attr for _, node in nodes(ast.Attribute) if isinstance(node.ctx, ast.Store)}
+VALUES = {target.id for kind in CLASSES.values() for node in kind.body if isinstance(node, ast.Assign)
+          for target in node.targets}
 
 
 class FilesTest(unittest.TestCase):
@@ -219,13 +221,17 @@ class SyntaxTest(unittest.TestCase):
             told = [method.name for method in methods(kind)]
             self.assertEqual(len(told), len(set(told)))
             self.assertFalse([n for n in told if n.startswith("__") and n not in DUNDERS], kind.name)
+            for node in kind.body:
+                if isinstance(node, ast.Assign):
+                    self.assertIsInstance(node.value, ast.Constant, kind.name)
+        self.assertFalse(VALUES & (STORED | OWN_METHODS | METHODS | set(CLASSES)))
 
     def test_l18_l26_attributes(self):
         self.assertFalse(STORED & BAD_ATTRIBUTES)
         self.assertFalse(STORED & OWN_METHODS)
         for name, node in nodes(ast.Attribute):
             if isinstance(node.ctx, ast.Load):
-                self.assertIn(node.attr, STORED | OWN_METHODS | METHODS, (name, node.lineno))
+                self.assertIn(node.attr, STORED | OWN_METHODS | METHODS | VALUES, (name, node.lineno))
 
     def test_l25_methods(self):
         for name, node in nodes(ast.Call):

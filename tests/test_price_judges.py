@@ -11,22 +11,12 @@ from nodearer.prices.judges import judge_bound, judge_refusal, judge_shares
 from nodearer.shares.sums import shares_of
 from nodearer.wishes.books import Book
 from nodearer.wishes.wishes import Wish
-from tests.plans import (FAMILIES, HALF, KINDS, PlanCase, R, barrier_by, borne, floor_by, misfit, ranks_of, ratio_for,
-                         ratios_for, some_book, some_prices, unfit_by)
+from tests.plans import (FAMILIES, HALF, KINDS, PlanCase, R, barrier_by, borne, floor_by, lowered, misfit, ranks_of,
+                         ratio_for, ratios_for, some_book, some_prices, unfit_by)
 
 PAIRS = Groups([0, 0, 1, 1], [1, 1])
 ENDS = Book(Web(3, [(0, 1), (1, 2), (0, 2), (0, 1)]),
             [Wish([1, 0, 1, 1], most=1), Wish([1, 1, 0, 1], most=1), Wish([0, 1, 1, 0], most=1)])
-
-
-def lowered(random, book):
-    """The book with other numbers, which it may be impossible to keep."""
-    wishes = []
-    for wish in book.wishes:
-        most = None if wish.most is None else wish.most - random.choice([0, 1, 2])
-        least = None if wish.least is None else min(wish.least + random.choice([0, 1]), 1000 if most is None else most)
-        wishes.append(Wish(wish.weights, most=most, least=least))
-    return Book(book.family, wishes)
 
 
 class RefusalTest(PlanCase):

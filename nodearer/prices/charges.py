@@ -18,7 +18,7 @@ def charge_of(book, prices, lot):
     looked = look_lot(book.family.things, lot)
     _look_fit(book, prices)
     parts, whole = scaled(prices)
-    return ratio_of(_charge(book, parts, looked), whole)
+    return ratio_of(charge_in(book, parts, looked), whole)
 
 
 def floor_of(book, costs, prices):
@@ -30,7 +30,7 @@ def floor_of(book, costs, prices):
 def lowest(book, costs, prices):
     """Return the first base whose sum of cost and charge is the floor for prices that fit."""
     parts, whole = _look_charging(book, costs, prices)
-    return min(list(book.family.bases()), key=lambda lot: _charged_cost(book, costs, parts, whole, lot))
+    return min(list(book.family.bases()), key=lambda lot: charged_cost(book, costs, parts, whole, lot))
 
 
 def unfit_price(book, prices):
@@ -43,14 +43,16 @@ def unfit_price(book, prices):
 
 def least_part(book, costs, parts, whole):
     """Return the floor for prices in parts of a whole, in such parts as well."""
-    return min([_charged_cost(book, costs, parts, whole, lot) for lot in book.family.bases()])
+    return min([charged_cost(book, costs, parts, whole, lot) for lot in book.family.bases()])
 
 
-def _charged_cost(book, costs, parts, whole, lot):
-    return sum_of_costs(costs, lot) * whole + _charge(book, parts, lot)
+def charged_cost(book, costs, parts, whole, lot):
+    """Return the sum of cost and charge for prices in parts of a whole, in such parts as well."""
+    return sum_of_costs(costs, lot) * whole + charge_in(book, parts, lot)
 
 
-def _charge(book, parts, lot):
+def charge_in(book, parts, lot):
+    """Return the charge of a lot that has been looked at, under prices in parts of a whole."""
     charges = []
     for part, wish in zip(parts, book.wishes):
         if part:

@@ -9,7 +9,7 @@ from nodearer.prices.charges import least_part, unfit_price
 
 def judge_refusal(book, prices):
     """Tell whether prices refuse a book."""
-    if not _are_fitting(book, prices):
+    if not are_fitting(book, prices):
         return False
     parts, whole = scaled(prices)
     return least_part(book, [0] * book.family.things, parts, whole) > 0
@@ -18,7 +18,7 @@ def judge_refusal(book, prices):
 def judge_bound(book, costs, bound, prices):
     """Tell whether prices show a bound for a book and costs."""
     look_costs(book.family.things, costs)
-    if not _are_fitting(book, prices):
+    if not are_fitting(book, prices):
         return False
     parts, whole = scaled(prices)
     return least_part(book, costs, parts, whole) * bound.den >= bound.num * whole
@@ -34,5 +34,6 @@ def judge_shares(book, shares):
         return False
 
 
-def _are_fitting(book, prices):
+def are_fitting(book, prices):
+    """Tell whether a paper is a list of prices that fit a book."""
     return are_ratios(prices, len(book.wishes)) and unfit_price(book, prices) is None

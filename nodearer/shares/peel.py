@@ -36,6 +36,11 @@ def peeled(family, shares):
 def judge_mixture(family, shares, mixture):
     """Tell whether a mixture is one of bases of the family, with exactly these shares."""
     look_shares(family.things, shares, MOST_WHOLE)
+    return is_mixture_of_bases(family, shares, mixture)
+
+
+def is_mixture_of_bases(family, shares, mixture):
+    """Tell what judge_mixture tells, for shares with any denominator."""
     if not isinstance(mixture, Mixture) or mixture.things != family.things:
         return False
     return mixture.shares == tuple(shares) and all([family.is_base(lot) for _, lot in mixture.pairs])

@@ -26,8 +26,13 @@ def near_base(book, shares, costs):
 
 def judge_near(book, shares, mixture):
     """Tell whether a mixture is a near mixture for the shares."""
+    look_shares(book.family.things, shares, MOST_WHOLE)
+    return is_near_mixture(book, shares, mixture)
+
+
+def is_near_mixture(book, shares, mixture):
+    """Tell what judge_near tells, for shares with any denominator."""
     things = book.family.things
-    look_shares(things, shares, MOST_WHOLE)
     if not isinstance(mixture, Mixture) or mixture.things != things or len(mixture.pairs) > max(1, things):
         return False
     return mixture.shares == tuple(shares) and all([book.is_near(lot) for _, lot in mixture.pairs])

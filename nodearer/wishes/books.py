@@ -51,7 +51,7 @@ class Book:
         parts, whole = look_shares(self.family.things, shares, MOST_WHOLE)
         if barrier_of(self.family.things, spares_of(self.family, parts, whole)) is not None:
             return False
-        return all([wish.allows(wish.total_of(parts), whole) for wish in self.wishes])
+        return unkept_wish(self, parts, whole) is None
 
     def __eq__(self, other):
         return isinstance(other, Book) and self.family == other.family and self.wishes == other.wishes
@@ -67,9 +67,17 @@ def look_fitting(book, shares):
     """Refuse shares that do not fit a book; the shares themselves have been looked at."""
     parts, whole = scaled(shares)
     look_borne(book.family.things, spares_of(book.family, parts, whole))
+    at = unkept_wish(book, parts, whole)
+    if at is not None:
+        raise WishError(at)
+
+
+def unkept_wish(book, parts, whole):
+    """Return the index of the first wish that shares in parts of a whole do not keep on average, or None."""
     for at, wish in enumerate(book.wishes):
         if not wish.allows(wish.total_of(parts), whole):
-            raise WishError(at)
+            return at
+    return None
 
 
 def _depth_of(things, wishes):

@@ -1,0 +1,1 @@
+"""Drawing the lots of a mixture one after the other."""

@@ -1,0 +1,1 @@
+"""Planning tasks in their own words."""
