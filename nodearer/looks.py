@@ -7,7 +7,7 @@ from nodearer.errors import NumberError, SizeError, ThingError
 
 _MOST_THINGS = 10
 _MOST_ENTRIES = 60
-_MOST_COST = 10 ** 6
+MOST_COST = 10 ** 6
 
 
 def look_size(count, least, most):
@@ -50,7 +50,7 @@ def look_lot(things, entries):
 def look_costs(things, costs):
     """Look at one cost for each thing."""
     look_size(len(costs), things, things)
-    look_numbers(costs, -_MOST_COST, _MOST_COST)
+    look_numbers(costs, -MOST_COST, MOST_COST)
 
 
 def look_rows(rows, most_rows, most_width, bound):

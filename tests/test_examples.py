@@ -37,12 +37,12 @@ class ExamplesTest(unittest.TestCase):
             self.assertEqual("".join(told), "")
 
     def test_readme(self):
-        self.check(ROOT / "README.md", 1)
+        self.check(ROOT / "README.md", 5)
 
     def test_document(self):
         document = ROOT.parent / "shared" / "DOC.md"
         if document.exists():
-            self.check(document, 3)
+            self.check(document, 9)
 
 
 if __name__ == "__main__":

@@ -34,6 +34,10 @@ CLASSES = {
     "nodearer.draws.calendars": {"Calendar": "__init__ __len__ __iter__ day counts of_thing".split()},
     "nodearer.fronts.front": {"Front": ["__init__", "solve", "words"]},
     "nodearer.fronts.works": {"Works": "__init__ laying loads end words".split(), "Fast": ["__init__"]},
+    "nodearer.fronts.nets": {"Net": ["__init__", "over", "words"]},
+    "nodearer.fronts.panels": {"Panel": ["__init__", "counts", "words"]},
+    "nodearer.fronts.crews": {"Crew": ["__init__", "seating", "words"]},
+    "nodearer.desk.desks": {"Desk": "__init__ do undo redo history undone answer held answer_with trial".split()},
 }
 FUNCTIONS = {
     "nodearer.exact.lots": {
@@ -74,6 +78,13 @@ FUNCTIONS = {
     "nodearer.prices.curves": {"curve": "book costs at"},
     "nodearer.draws.tapes": {"period_of": "mixture", "drawn": "mixture number"},
     "nodearer.fronts.works": {"fast": "times"},
+    "nodearer.texts.kinds": {"family_text": "family", "read_family": "text"},
+    "nodearer.texts.sheets": {"book_text": "book costs", "read_book": "text"},
+    "nodearer.texts.papers": {
+        "mixture_text": "mixture", "read_mixture": "things text", "prices_text": "prices", "read_prices": "text",
+        "ladder_text": "lines", "read_ladder": "things text"},
+    "nodearer.texts.reports": {"report": "book costs answer"},
+    "nodearer.desk.edits": {"edited": "book costs edit", "inverse": "book costs edit"},
 }
 ARGUMENTS = {
     ("nodearer.families.counts", "Choice"): "(things, take)", ("nodearer.families.counts", "Groups"): "(groups, takes)",
@@ -91,6 +102,10 @@ ARGUMENTS = {
     ("nodearer.fronts.front", "Front"): "(book, costs)",
     ("nodearer.fronts.works", "Works"): "(times, limit, *, costs=None)",
     ("nodearer.fronts.works", "Fast"): "(works, refusal, settlement)",
+    ("nodearer.fronts.nets", "Net"): "(places, cables, ports)",
+    ("nodearer.fronts.panels", "Panel"): "(people, size, traits, *, costs=None)",
+    ("nodearer.fronts.crews", "Crew"): "(seats, fits, traits, *, costs=None)",
+    ("nodearer.desk.desks", "Desk"): "(book, costs)",
 }
 METHODS = {
     ("nodearer.shares.mixtures", "Mixture"): {
@@ -109,6 +124,12 @@ METHODS = {
     ("nodearer.draws.calendars", "Calendar"): {"day": "number", "counts": "days", "of_thing": "thing"},
     ("nodearer.fronts.front", "Front"): {"solve": "", "words": "lot"},
     ("nodearer.fronts.works", "Works"): {"laying": "lot", "loads": "lot", "end": "lot", "words": "lot"},
+    ("nodearer.fronts.nets", "Net"): {"over": "lot", "words": "lot"},
+    ("nodearer.fronts.panels", "Panel"): {"counts": "lot", "words": "lot"},
+    ("nodearer.fronts.crews", "Crew"): {"seating": "lot", "words": "lot"},
+    ("nodearer.desk.desks", "Desk"): {
+        "do": "edit", "undo": "", "redo": "", "history": "", "undone": "", "answer": "", "answer_with": "edits",
+        "trial": "edits"},
 }
 
 
@@ -157,14 +178,18 @@ class InterfaceTest(unittest.TestCase):
                 ("nodearer.shares.mixtures", "Mixture", "blend", staticmethod),
                 ("nodearer.wishes.wishes", "Wish", "of", classmethod),
                 ("nodearer.walks.walker", "Walker", "ended", property),
-                ("nodearer.walks.walker", "Walker", "steps", property)):
+                ("nodearer.walks.walker", "Walker", "steps", property),
+                ("nodearer.desk.desks", "Desk", "held", property)):
             self.assertIsInstance(vars(getattr(import_module(module), name))[method], kind)
 
     def test_bases_of_classes(self):
         for module, name, base_module, base in (
                 ("nodearer.prices.answers", "Refusal", "nodearer.prices.answers", "Answer"),
                 ("nodearer.prices.answers", "Settlement", "nodearer.prices.answers", "Answer"),
-                ("nodearer.fronts.works", "Works", "nodearer.fronts.front", "Front")):
+                ("nodearer.fronts.works", "Works", "nodearer.fronts.front", "Front"),
+                ("nodearer.fronts.nets", "Net", "nodearer.fronts.front", "Front"),
+                ("nodearer.fronts.panels", "Panel", "nodearer.fronts.front", "Front"),
+                ("nodearer.fronts.crews", "Crew", "nodearer.fronts.front", "Front")):
             self.assertEqual(getattr(import_module(module), name).__bases__,
                              (getattr(import_module(base_module), base),))
 

@@ -15,11 +15,7 @@ class Seats(Family):
     """The family of the lots whose things can sit down at the same time."""
 
     def __init__(self, seats, fits):
-        look_number(seats, 0, _MOST_SEATS)
-        look_size(len(fits), 0, _MOST_THINGS)
-        for fit in fits:
-            look_size(len(fit), 0, _MOST_FITS)
-            look_numbers(fit, 0, _MOST_SEATS - 1)
+        look_seats(seats, fits)
         for fit in fits:
             for seat in fit:
                 if seat >= seats:
@@ -49,6 +45,15 @@ class Seats(Family):
                 taken[seat] = thing
                 return True
         return False
+
+
+def look_seats(seats, fits):
+    """Look at a number of seats and at the seats that each thing fits."""
+    look_number(seats, 0, _MOST_SEATS)
+    look_size(len(fits), 0, _MOST_THINGS)
+    for fit in fits:
+        look_size(len(fit), 0, _MOST_FITS)
+        look_numbers(fit, 0, _MOST_SEATS - 1)
 
 
 def _free(seats, fits):

@@ -4,7 +4,7 @@ from nodearer.errors import GapError, LotError
 from nodearer.families.counts import Groups
 from nodearer.families.family import MOST_THINGS
 from nodearer.fronts.front import Front
-from nodearer.looks import look_lot, look_number, look_numbers, look_rows, look_size, look_widths
+from nodearer.looks import MOST_COST, look_lot, look_number, look_numbers, look_rows, look_size, look_widths
 from nodearer.prices.settle import value_of
 from nodearer.wishes.books import Book
 from nodearer.wishes.wishes import Wish
@@ -14,7 +14,6 @@ _MOST_MACHINES = 5
 _MOST_TIME = 20
 _MOST_LIMIT = 200
 _MOST_ROWS = 10
-_MOST_COST = 10 ** 6
 
 
 class Works(Front):
@@ -24,7 +23,7 @@ class Works(Front):
         _look_times(times)
         look_number(limit, 1, _MOST_LIMIT)
         if costs is not None:
-            look_rows(costs, _MOST_ROWS, _MOST_ROWS, _MOST_COST)
+            look_rows(costs, _MOST_ROWS, _MOST_ROWS, MOST_COST)
         look_widths(times, len(times[0]))
         pairs = _open_pairs(times, limit)
         if costs is not None:

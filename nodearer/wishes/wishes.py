@@ -7,7 +7,7 @@ from nodearer.shares.loads import MOST_WHOLE, look_shares
 
 _MOST_WEIGHTS = 10
 _MOST_WEIGHT = 20
-_MOST_NUMBER = 1000
+MOST_NUMBER = 1000
 
 
 class Wish:
@@ -18,7 +18,7 @@ class Wish:
         look_numbers(weights, 0, _MOST_WEIGHT)
         for number in (most, least):
             if number is not None:
-                look_number(number, -_MOST_NUMBER, _MOST_NUMBER)
+                look_number(number, -MOST_NUMBER, MOST_NUMBER)
         self.weights = tuple(weights)
         self.most = most
         self.least = least

@@ -1,0 +1,1 @@
+"""Desks, at which books are edited and asked."""

@@ -1,0 +1,1 @@
+"""Families, books, mixtures, prices and ladders as texts, and reports."""
