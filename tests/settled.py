@@ -35,6 +35,8 @@ def settles_by(book, costs, answer):
         return False
     mixture, near = table_of(answer.mixture), table_of(answer.near)
     shares = shares_by(things, mixture)
+    if any(min(table.values()) <= 0 or sum(table.values()) != 1 for table in (mixture, near)):
+        return False
     if not set(mixture) <= set(book.family.bases()) or misfit(book, shares) is not None:
         return False
     if mean_cost(costs, shares) != value or not shows_by(book, costs, value, fracs(answer.prices)):

@@ -253,10 +253,13 @@ class SettlementTest(AnswerCase):
     def test_denominators_near_the_bound_of_trimmed(self):
         """A trimmed mixture may have weights with a denominator up to 10 ** 50."""
         random = Random(95)
-        mixture = far_mixture(random, random.sample(list(Choice(10, 5).bases()), 60), 10 ** 40)
-        near = mixture.trimmed()
-        self.assertEqual(fracs(near.shares), fracs(mixture.shares))
-        book = Book(Choice(10, 5), [])
-        self.assertIs(Settlement(mixture, [], R(0), near, near.pairs[0][1]).holds(book, [0] * 10), True)
-        self.assertIs(Settlement(near, [], R(0), near, near.pairs[-1][1]).holds(book, [0] * 10), False)
-        self.assertIs(Settlement(mixture, [], R(1, MOST), near, near.pairs[0][1]).holds(book, [0] * 10), False)
+        book, greatest = Book(Choice(10, 5), []), 0
+        for _ in range(4):
+            mixture = far_mixture(random, random.sample(list(Choice(10, 5).bases()), 60), 10 ** 40)
+            near = mixture.trimmed()
+            greatest = max(greatest, whole_of([weight for weight, _ in near.pairs]))
+            self.assertEqual(fracs(near.shares), fracs(mixture.shares))
+            self.assertIs(Settlement(mixture, [], R(0), near, near.pairs[0][1]).holds(book, [0] * 10), True)
+            self.assertIs(Settlement(near, [], R(0), near, near.pairs[-1][1]).holds(book, [0] * 10), False)
+            self.assertIs(Settlement(mixture, [], R(1, MOST), near, near.pairs[0][1]).holds(book, [0] * 10), False)
+        self.assertTrue(10 ** 40 < greatest <= 10 ** 50)

@@ -99,6 +99,19 @@ class WriteTest(Case):
         self.refused(TextError, (1, 481), read_family, "(mirror " * 60 + "x")
 
 
+    def test_brackets_that_are_closed_again(self):
+        """Only the brackets that are open at the same time count."""
+        ahead = "(both (choice 1 1) "
+        self.refused(TextError, (1, 59 * 19 + 7), read_family, ahead * 60 + "(choice 1 1)" + ")" * 60)
+        self.refused(TextError, (1, 59 * 19 + 7), read_family, ahead * 59 + "(both (choice 1 1) (choice 1 1))" + ")" * 59)
+        # The inner families are made first, so the one with 41 nodes is refused, or the one with 11 things.
+        self.refused(SizeError, (11,), read_family, ahead * 59 + "(choice 1 1)" + ")" * 59)
+        ahead = "(both (choice 0 0) "
+        self.refused(NumberError, (41,), read_family, ahead * 59 + "(choice 0 0)" + ")" * 59)
+        rows = "(vectors (" + " ".join(["()"] * 900) + ") 0)"
+        self.refused(SizeError, (900,), read_family, rows)
+
+
 class ReadTest(Case):
     def wrong(self, text, line, column):
         self.refused(TextError, (line, column), read_family, text)

@@ -79,6 +79,7 @@ class PanelTest(AnswerCase):
         self.exact(panel.counts([0, 3]), [2, 0, 0, 2])
         self.exact((Panel(0, 0, []).words([]), Panel(0, 0, []).counts(()), Panel(0, 0, []).solve().plan), ([], [], ()))
         self.exact(Panel(3, 1, [], costs=[3, 1, 2]).solve().plan, (1,))
+        self.exact(Panel(10, 10, []).solve().plan, tuple(range(10)))
 
     def test_looks(self):
         """People, size, traits with their parts, costs."""

@@ -1,9 +1,11 @@
 """Points 3 to 5 and 48 and the section nodearer/draws/tapes.py."""
 
+from fractions import Fraction
 from random import Random
 
 from nodearer.draws.tapes import drawn, period_of
 from nodearer.errors import NumberError
+from nodearer.families.counts import Choice
 from nodearer.shares.mixtures import Mixture
 from tests.plans import FAMILIES, HALF, PlanCase, R, frac, mixed, ratio_for, whole_of
 
@@ -51,9 +53,26 @@ class TapesTest(PlanCase):
         for number, lot in ((0, ()), (1, (0,)), (far - 3, (0,)), (far - 2, (0, 1)), (far - 1, (0, 1)), (far, ()),
                             (10 ** 60, ()), (10 ** 60 - 1, (0, 1)), (10 ** 60 - 3, (0,)), (5 * far + 1, (0,))):
             self.exact(drawn(mixture, number), lot)
-        blended = Mixture.blend(2, [(R(1, 3 ** 20), mixture), (R(3 ** 20 - 1, 3 ** 20), Mixture(2, [(R(1), [1])]))]) \
-            if 3 ** 20 * far <= 10 ** 40 else mixture
-        self.exact(period_of(blended), far)
+
+    def test_periods_beyond_those_of_the_class(self):
+        """A mixture that is trimmed may have a longer period than one that is made by its class."""
+        random = Random(127)
+        far, bases, seen = 10 ** 40, list(Choice(10, 5).bases()), 0
+        for _ in range(4):
+            cuts = sorted(random.randrange(1, far) for _ in range(39))
+            parts = [high - low for low, high in zip([0] + cuts, cuts + [far])]
+            mixture = Mixture(10, [(R(part, far), lot) for part, lot in zip(parts, random.sample(bases, 40))]).trimmed()
+            period = self.asked(period_of, mixture)
+            self.exact(period, whole_of(weighed(mixture)))
+            seen = max(seen, period)
+            ends, ahead = [], Fraction(0)
+            for weight, lot in mixture:
+                ahead += frac(weight) * period
+                ends.append((ahead, lot))
+            for number in [random.randrange(10 ** 60) for _ in range(20)] + [period - 1, period, 10 ** 60]:
+                wanted = next(lot for end, lot in ends if number % period < end)
+                self.exact(self.asked(drawn, mixture, number), wanted)
+        self.assertTrue(far < seen <= 10 ** 50)
 
     def test_refusals(self):
         for number in (-1, 10 ** 60 + 1, -10 ** 60):

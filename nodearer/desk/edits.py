@@ -3,7 +3,7 @@
 from nodearer.errors import SizeError, WishError
 from nodearer.looks import MOST_COST, look_costs, look_number, look_thing
 from nodearer.wishes.books import Book, look_wish
-from nodearer.wishes.wishes import MOST_NUMBER, Wish
+from nodearer.wishes.wishes import Wish
 
 
 def edited(book, costs, edit):
@@ -55,8 +55,6 @@ def _wishes_after(book, edit):
     look_wish(book, at)
     if edit[0] == "strike":
         return wishes[:at] + wishes[at + 1:]
-    if edit[2] is not None:
-        look_number(edit[2], -MOST_NUMBER, MOST_NUMBER)
     wish = wishes[at]
     if edit[0] == "most":
         wishes[at] = Wish(wish.weights, most=edit[2], least=wish.least)

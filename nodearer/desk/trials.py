@@ -9,12 +9,6 @@ class Trial:
     def __init__(self, desk, edits):
         self.desk = desk
         self.edits = list(edits)
-        self.book = None
-        self.costs = None
-        self.past = None
-        self.future = None
-        self.kept = None
-        self.made = None
 
     def __enter__(self):
         desk = self.desk

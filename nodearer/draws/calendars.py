@@ -44,7 +44,8 @@ def _order_of(lots, parts, period):
     gone = [0] * len(lots)
     order = []
     for day in range(period):
-        ready = [at for at, part in enumerate(parts) if gone[at] < part and gone[at] * period // part <= day]
+        # A lot without days to come is never ready: its next day would be behind the last one.
+        ready = [at for at, part in enumerate(parts) if gone[at] * period // part <= day]
         # The latest day of the next day of a lot is just before this quotient, rounded up.
         at = min(ready, key=lambda other: -(-(gone[other] + 1) * period // parts[other]))
         gone[at] += 1

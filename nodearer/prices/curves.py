@@ -12,7 +12,8 @@ def curve(book, costs, at):
     look_costs(book.family.things, costs)
     look_wish(book, at)
     wish = book.wishes[at]
-    if not wish.plain or wish.most is None or wish.least is not None:
+    # A wish without a least number has a greatest one.
+    if not wish.plain or wish.least is not None:
         raise WishError(at)
     return [value_of(_with_most(book, at, number), costs) for number in range(len(wish.lot) + 1)]
 
