@@ -21,15 +21,13 @@ class Desk:
         self.costs = tuple(costs)
         self.made = 0
         self.kept = None
-        # The past has tuples of an edit and its inverse, the last one first; the future has the edits to come.
+        # The past has tuples of an edit and its inverse, the oldest first; the future has edits, the next one first.
         self.past = ()
         self.future = ()
 
     def do(self, edit):
         """Do an edit; return its inverse."""
-        back = inverse(self.book, self.costs, edit)
-        self.change(edit)
-        self.past = (*self.past, (edit, back))
+        back = self._go_on(edit)
         self.future = ()
         return back
 
@@ -38,7 +36,7 @@ class Desk:
         if not self.past:
             raise HistoryError()
         edit, back = self.past[-1]
-        self.change(back)
+        self._change(back)
         self.past = self.past[:-1]
         self.future = (edit, *self.future)
         return edit
@@ -48,17 +46,9 @@ class Desk:
         if not self.future:
             raise HistoryError()
         edit = self.future[0]
-        back = inverse(self.book, self.costs, edit)
-        self.change(edit)
-        self.past = (*self.past, (edit, back))
+        self._go_on(edit)
         self.future = self.future[1:]
         return edit
-
-    def change(self, edit):
-        """Do an edit without writing it down."""
-        book, costs = edited(self.book, self.costs, edit)
-        self.book = book
-        self.costs = tuple(costs)
 
     def history(self):
         """Return the list of the edits that have been done and not undone, the oldest first."""
@@ -89,3 +79,15 @@ class Desk:
         """Return an object for a with statement, in whose block some edits are done."""
         look_size(len(edits), 0, _MOST_EDITS)
         return Trial(self, edits)
+
+    def _go_on(self, edit):
+        """Do an edit that comes behind those of the past; return its inverse."""
+        back = inverse(self.book, self.costs, edit)
+        self._change(edit)
+        self.past = (*self.past, (edit, back))
+        return back
+
+    def _change(self, edit):
+        book, costs = edited(self.book, self.costs, edit)
+        self.book = book
+        self.costs = tuple(costs)
