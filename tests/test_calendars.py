@@ -77,7 +77,8 @@ class CalendarTest(PlanCase):
         self.check(Mixture(9, [(R(1, 400), lot) for lot in lots]))
         self.check(some_mixture(random, 10, 399, 60))
         self.refused(NumberError, (401,), Calendar, Mixture(1, [(R(1, 401), []), (R(400, 401), [0])]))
-        self.refused(NumberError, (10 ** 40,), Calendar, Mixture(1, [(R(1, 10 ** 40), []), (R(1) - R(1, 10 ** 40), [0])]))
+        far = Mixture(1, [(R(1, 10 ** 40), []), (R(1) - R(1, 10 ** 40), [0])])
+        self.refused(NumberError, (10 ** 40,), Calendar, far)
 
     def test_told(self):
         calendar = Calendar(THREE)

@@ -63,7 +63,8 @@ class CrewTest(AnswerCase):
             told = self.asked(crew.seating, turned)
             self.assertEqual(sorted(told), list(lot))
             self.assertTrue(all(seat in fits[person] for seat, person in enumerate(told)))
-            self.exact(self.asked(crew.words, turned), [f"seat {seat}: person {person}" for seat, person in enumerate(told)])
+            words = [f"seat {seat}: person {person}" for seat, person in enumerate(told)]
+            self.exact(self.asked(crew.words, turned), words)
 
     def test_told(self):
         crew = Crew(3, FITS, [], costs=[1, 5, 9, 2, 0])

@@ -26,7 +26,8 @@ TEXTS = [
     (Vectors([]), "(vectors () 0)"), (Seats(2, [[1, 0, 1], [], [1]]), "(seats 2 ((0 1) () (1)))"),
     (Told(3, [[2, 0], [1, 0], [0, 2]]), "(told 3 ((0 1) (0 2)))"), (Told(2, [[]]), "(told 2 (()))"),
     (Both(Choice(1, 1), Mirror(Choice(2, 0))), "(both (choice 1 1) (mirror (choice 2 0)))"),
-    (Short(Choice(4, 3), 2), "(short (choice 4 3) 2)"), (Mirror(Mirror(Choice(1, 0))), "(mirror (mirror (choice 1 0)))"),
+    (Short(Choice(4, 3), 2), "(short (choice 4 3) 2)"),
+    (Mirror(Mirror(Choice(1, 0))), "(mirror (mirror (choice 1 0)))"),
     (Minor(Choice(3, 2), [2], []), "(minor (choice 3 2) (2) ())"),
     (EXAMPLE, "(minor (both (choice 3 1) (web 2 ((0 1) (1 0)))) (0) (4))")]
 FIELDS = ("take", "groups", "takes", "rooms", "places", "ties", "rows", "prime", "seats", "fits", "lots", "first",
@@ -103,7 +104,8 @@ class WriteTest(Case):
         """Only the brackets that are open at the same time count."""
         ahead = "(both (choice 1 1) "
         self.refused(TextError, (1, 59 * 19 + 7), read_family, ahead * 60 + "(choice 1 1)" + ")" * 60)
-        self.refused(TextError, (1, 59 * 19 + 7), read_family, ahead * 59 + "(both (choice 1 1) (choice 1 1))" + ")" * 59)
+        deep = ahead * 59 + "(both (choice 1 1) (choice 1 1))" + ")" * 59
+        self.refused(TextError, (1, 59 * 19 + 7), read_family, deep)
         # The inner families are made first, so the one with 41 nodes is refused, or the one with 11 things.
         self.refused(SizeError, (11,), read_family, ahead * 59 + "(choice 1 1)" + ")" * 59)
         ahead = "(both (choice 0 0) "
@@ -175,7 +177,8 @@ class ReadTest(Case):
                 ("(choice 3 4)", NumberError, (4,)), ("(choice -3 1)", NumberError, (-3,)),
                 ("(choice 9999999 -9999999)", NumberError, (9999999,)), ("(groups (0 1) (1))", NumberError, (1,)),
                 ("(rooms 3 (((0 1) 1) ((1 2) 1)))", CrossError, (0, 1)), ("(rooms 3 (((0 3) 1)))", ThingError, (3,)),
-                ("(web 2 ((0 1 1)))", SizeError, (3,)), ("(web 2 ((0)))", SizeError, (1,)), ("(web 2 (()))", SizeError, (0,)),
+                ("(web 2 ((0 1 1)))", SizeError, (3,)), ("(web 2 ((0)))", SizeError, (1,)),
+                ("(web 2 (()))", SizeError, (0,)),
                 ("(web 2 ((0 2)))", NumberError, (2,)), ("(vectors ((1) (1 2)) 0)", SizeError, (2,)),
                 ("(vectors ((1001)) 4)", NumberError, (1001,)), ("(vectors () 4)", NumberError, (4,)),
                 ("(seats 1 ((1)))", NumberError, (1,)), ("(told 2 ((0) (0 1)))", LotError, ((0, 1),)),

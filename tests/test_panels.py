@@ -19,7 +19,8 @@ def some_traits(random, people):
     traits = []
     for _ in range(random.randint(0, 5)):
         lot = [random.randrange(people) for _ in range(random.randint(0, 12))] if people else []
-        most, least = random.choice([(random.randint(0, 4), None), (None, random.randint(0, 3)), (2, 1), (1, 1), (3, 0)])
+        single = [(random.randint(0, 4), None), (None, random.randint(0, 3))]
+        most, least = random.choice(single + [(2, 1), (1, 1), (3, 0)])
         traits.append((lot, most, least))
     return traits
 

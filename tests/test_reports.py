@@ -82,7 +82,9 @@ class ReportTest(AnswerCase):
         """Whether the answer is right is not looked at."""
         paper = Settlement(Mixture(4, [(R(1), [0, 1, 2])]), [R(5), R(5), R(-5)], R(-1), MIXTURE, [])
         self.exact(report(BOOK, [0] * 4, paper), [
-            " 0          2 <= 3            0 5", " 1          1 >= -20          0 5", " 2          1 0 .. 1          0 -5"])
+            " 0          2 <= 3            0 5",
+            " 1          1 >= -20          0 5",
+            " 2          1 0 .. 1          0 -5"])
 
     def test_no_wishes_and_no_things(self):
         self.exact(report(Book(PAIRS, []), [0] * 4, settle(Book(PAIRS, []), [0] * 4)), [])

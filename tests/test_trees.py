@@ -153,8 +153,8 @@ class TreeTest(AnswerCase):
 
     def test_base(self):
         lines = [("dearer", [R(3), R(0)])]
-        for base in ([0, 2], [1, 3], [1], [], [1, 2, 3], [1, 4], [-1, 2], [1, 2, 10 ** 40], [-10 ** 40], list(range(60)),
-                     [0, 1]):
+        for base in ([0, 2], [1, 3], [1], [], [1, 2, 3], [1, 4], [-1, 2], [1, 2, 10 ** 40], [-10 ** 40], [0, 1],
+                     list(range(60))):
             self.holds(base, lines, False)
         self.holds([1, 2] * 30, lines, True)
         self.holds([1, 2] * 30, [], False)
