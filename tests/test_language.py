@@ -233,6 +233,27 @@ class SyntaxTest(unittest.TestCase):
             if isinstance(node.ctx, ast.Load):
                 self.assertIn(node.attr, STORED | OWN_METHODS | METHODS | VALUES, (name, node.lineno))
 
+    def test_l5_names_with_decorators(self):
+        marked = [(kind, method.name) for kind in CLASSES.values() for method in methods(kind) if method.decorator_list]
+        for kind, name in marked:
+            others = [other for other in CLASSES.values() if other is not kind]
+            self.assertNotIn(name, {method.name for other in others for method in methods(other)}, kind.name)
+            self.assertNotIn(name, METHODS | STORED | VALUES, kind.name)
+
+    def test_l6_with(self):
+        """What stands in __exit__ and in the method that it calls is only put back."""
+        for kind in CLASSES.values():
+            rows = {method.name: method for method in methods(kind)}
+            if "__exit__" not in rows:
+                continue
+            self.assertEqual(arguments(rows["__exit__"]), ["self", "kind", "value", "trace"])
+            call = rows["__exit__"].body[0].value
+            self.assertEqual((len(rows["__exit__"].body), call.func.value.id, call.args), (1, "self", []))
+            for row in rows[call.func.attr].body[1:]:
+                self.assertIsInstance(row, ast.Assign)
+                self.assertIsInstance(row.value, ast.Attribute)
+                self.assertEqual(row.value.value.id, "self")
+
     def test_l25_methods(self):
         for name, node in nodes(ast.Call):
             if isinstance(node.func, ast.Attribute):
